@@ -19,7 +19,7 @@ var start = [8]uint32{
 	0x510e527f, 0x9b05688c, 0x1f83d9ab, 0x5be0cd19,
 }
 
-// The rounds' numbers are 64 roots, too dear to be worked out for each hash.
+// The rounds' numbers as the primes' roots make them, too dear to be worked out more than once.
 var (
 	roundsOnce sync.Once
 	roundsMade [64]uint32
@@ -27,7 +27,7 @@ var (
 
 // Sum: the hash of s, 32 bytes.
 func Sum(s string) string {
-	state, k := start, rounds()
+	state, k := start, roundNumbers()
 	whole := len(s) - len(s)%blockLen
 	for i := 0; i < whole; i += blockLen {
 		mix(&state, &k, s[i:i+blockLen])
@@ -71,6 +71,12 @@ func Raw(text string) (string, bool) {
 		out = append(out, high<<4|low)
 	}
 	return string(out), true
+}
+
+// Rounds: the rounds' numbers, made when they are first asked for.
+func Rounds() [64]uint32 {
+	roundsOnce.Do(func() { roundsMade = makeRounds() })
+	return roundsMade
 }
 
 func digit(c byte) (byte, bool) {
@@ -155,10 +161,26 @@ func turn(x uint32, n int) uint32 {
 	return bits.RotateLeft32(x, -n)
 }
 
-// rounds: the rounds' numbers, made when they are first asked for.
-func rounds() [64]uint32 {
-	roundsOnce.Do(func() { roundsMade = makeRounds() })
-	return roundsMade
+// roundNumbers: the rounds' numbers, written out, so that a hash hangs on nothing that is kept; Rounds vouches for them.
+func roundNumbers() [64]uint32 {
+	return [64]uint32{
+		0x428a2f98, 0x71374491, 0xb5c0fbcf, 0xe9b5dba5,
+		0x3956c25b, 0x59f111f1, 0x923f82a4, 0xab1c5ed5,
+		0xd807aa98, 0x12835b01, 0x243185be, 0x550c7dc3,
+		0x72be5d74, 0x80deb1fe, 0x9bdc06a7, 0xc19bf174,
+		0xe49b69c1, 0xefbe4786, 0x0fc19dc6, 0x240ca1cc,
+		0x2de92c6f, 0x4a7484aa, 0x5cb0a9dc, 0x76f988da,
+		0x983e5152, 0xa831c66d, 0xb00327c8, 0xbf597fc7,
+		0xc6e00bf3, 0xd5a79147, 0x06ca6351, 0x14292967,
+		0x27b70a85, 0x2e1b2138, 0x4d2c6dfc, 0x53380d13,
+		0x650a7354, 0x766a0abb, 0x81c2c92e, 0x92722c85,
+		0xa2bfe8a1, 0xa81a664b, 0xc24b8b70, 0xc76c51a3,
+		0xd192e819, 0xd6990624, 0xf40e3585, 0x106aa070,
+		0x19a4c116, 0x1e376c08, 0x2748774c, 0x34b0bcb5,
+		0x391c0cb3, 0x4ed8aa4a, 0x5b9cca4f, 0x682e6ff3,
+		0x748f82ee, 0x78a5636f, 0x84c87814, 0x8cc70208,
+		0x90befffa, 0xa4506ceb, 0xbef9a3f7, 0xc67178f2,
+	}
 }
 
 // makeRounds: the first 32 bits behind the point of the cube roots of the first 64 primes.

@@ -217,7 +217,7 @@ func fraction(p, n int64) uint32 {
 
 // P1.1: the state and the rounds' numbers are the primes' roots.
 func TestRoots(t *testing.T) {
-	k, n := rounds(), 0
+	written, made, n := roundNumbers(), Rounds(), 0
 	for p := int64(2); n < 64; p++ {
 		if !big.NewInt(p).ProbablyPrime(10) {
 			continue
@@ -225,10 +225,29 @@ func TestRoots(t *testing.T) {
 		if n < 8 && start[n] != fraction(p, 2) {
 			t.Errorf("the square root of %d: %x", p, start[n])
 		}
-		if k[n] != fraction(p, 3) {
-			t.Errorf("the cube root of %d: %x", p, k[n])
+		if want := fraction(p, 3); written[n] != want || made[n] != want {
+			t.Errorf("the cube root of %d: written %x, made %x", p, written[n], made[n])
 		}
 		n++
+	}
+}
+
+// The numbers that the once makes are those by which Sum works.
+func TestRoundsAreSums(t *testing.T) {
+	made, k := Rounds(), roundNumbers()
+	if made != k {
+		t.Fatalf("made %x, worked by %x", made, k)
+	}
+	for _, n := range []int{0, 1, 55, 56, 64, 65, 300} {
+		s := varied(n)
+		whole := len(s) - len(s)%blockLen
+		state, text := start, s[:whole]+ending(s[whole:], uint64(len(s)))
+		for i := 0; i < len(text); i += blockLen {
+			mix(&state, &made, text[i:i+blockLen])
+		}
+		if got := joined(state); got != Sum(s) {
+			t.Errorf("of %d bytes by the numbers made: %x", n, got)
+		}
 	}
 }
 
@@ -238,44 +257,69 @@ func unmake() {
 	roundsMade = [64]uint32{}
 }
 
-// P1.1: whoever asks first, and however many at once, all are told the same.
+// Whoever asks for the rounds' numbers first, and however many at once, all are told the same.
 func TestFirstAsked(t *testing.T) {
-	s := varied(200)
+	defer unmake()
+	want := makeRounds()
 	for range 50 {
 		unmake()
-		got := make([]string, 8)
+		got := make([][64]uint32, 8)
 		var all sync.WaitGroup
 		for i := range got {
-			all.Go(func() { got[i] = Sum(s) })
+			all.Go(func() { got[i] = Rounds() })
 		}
 		all.Wait()
 		for i := range got {
-			if got[i] != wantSum(s) {
+			if got[i] != want {
 				t.Fatalf("the asker %d: %x", i, got[i])
 			}
 		}
 	}
 }
 
-// The rounds' numbers are made when they are first asked for, and never again.
+// The rounds' numbers are made when they are first asked for, and never again; what is answered is the caller's own.
 func TestMadeOnce(t *testing.T) {
 	defer unmake()
 	unmake()
-	Hex("x")
-	Raw("00")
-	if roundsMade != [64]uint32{} {
-		t.Error("made ahead of the first hash")
-	}
-	Sum("x")
+	got := Rounds()
 	if roundsMade != makeRounds() {
-		t.Error("not made by the first hash")
+		t.Error("not made when asked for")
 	}
-	roundsMade[0]++
-	Sum("x")
-	Mac("k", "x")
-	if roundsMade == makeRounds() {
-		t.Error("made anew")
+	got[0]++
+	if Rounds() == got {
+		t.Error("what was answered is what is kept")
 	}
+	for _, kept := range [][64]uint32{got, {}} {
+		roundsMade = kept
+		if Rounds() != kept {
+			t.Error("made anew")
+		}
+	}
+}
+
+// P1.1, R7: what the chapter's calls answer hangs on their arguments alone: they neither make nor read what is kept.
+func TestNothingKept(t *testing.T) {
+	defer unmake()
+	check := func(when string) {
+		if s := varied(200); Sum(s) != wantSum(s) || Mac("k", s) != wantMac("k", s) {
+			t.Error("another hash or seal", when)
+		}
+		if text := Hex("\x00\xff"); text != "00ff" {
+			t.Error(text, when)
+		}
+		if s, ok := Raw("00ff"); !ok || s != "\x00\xff" {
+			t.Errorf("%q %v %s", s, ok, when)
+		}
+	}
+	unmake()
+	check("ahead of the numbers")
+	if roundsMade != [64]uint32{} {
+		t.Error("made without being asked for")
+	}
+	Rounds()
+	check("behind the numbers")
+	roundsMade = [64]uint32{1, 2, 3}
+	check("with other numbers kept")
 }
 
 // P0: no text makes a call panic, or answer otherwise than it is to.
